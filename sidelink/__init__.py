@@ -1,0 +1,1 @@
+"""Sidelink: a tree of pages that many hands change at once."""

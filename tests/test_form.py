@@ -1,0 +1,182 @@
+"""Holds the package's files against the rules of the language part that can be read off the syntax tree."""
+
+import ast
+import builtins
+import pathlib
+import re
+import unittest
+
+PACKAGE = pathlib.Path(__file__).resolve().parent.parent / "sidelink"
+
+ERRORS = """Exception ValueError TypeError KeyError IndexError LookupError ZeroDivisionError ArithmeticError
+OverflowError RuntimeError NotImplementedError AttributeError StopIteration""".split()
+BUILTINS = """len range enumerate zip min max sum abs sorted reversed int str bool list tuple dict set frozenset
+isinstance ord repr any all divmod""".split() + ERRORS
+METHODS = "__init__ __eq__ __repr__ __str__ __len__".split()
+NOWHERE = """type typing typing_extensions enum Enum IntEnum StrEnum Flag IntFlag Generic Protocol ABC ABCMeta
+namedtuple NamedTuple TypedDict TYPE_CHECKING abstractmethod""".split()
+WITHIN = ("dataclass", "overload", "contextmanager")
+UNUSED = """register mro elements open input version_info with_traceback add_note format format_map attrgetter
+breakpoint builtins compile copyright credits delattr dir eval exec exit gc getattr globals hasattr help id importlib
+license locals methodcaller os quit setattr super vars sys chr print""".split()
+STATEMENTS = (ast.Assign, ast.AugAssign, ast.If, ast.While, ast.For, ast.Return, ast.Break, ast.Continue, ast.Pass,
+              ast.Raise, ast.Try, ast.Expr, ast.FunctionDef, ast.ClassDef, ast.ImportFrom)
+BARRED = (ast.DictComp, ast.SetComp, ast.GeneratorExp, ast.NamedExpr, ast.Starred, ast.Await, ast.Yield,
+          ast.YieldFrom, ast.Div, ast.MatMult)
+
+
+def text_faults(text):
+    lines = text.split("\n")
+    if len(lines) > 401:
+        yield "L10: file too long"
+    for row, line in enumerate(lines, start=1):
+        if len(line) > 120:
+            yield f"L10: line {row} too long"
+        if any(not " " <= sign <= "~" for sign in line):
+            yield f"L14: sign in line {row}"
+    for word in re.findall(r"\w+", text):
+        if word in NOWHERE or any(part in word for part in WITHIN):
+            yield f"L17: word {word}"
+
+
+def top_faults(tree):
+    bound = []
+    for node in tree.body:
+        if isinstance(node, (ast.FunctionDef, ast.ClassDef)):
+            bound.append(node.name)
+        elif isinstance(node, ast.Assign):
+            bound.extend(target.id for target in node.targets if isinstance(target, ast.Name))
+            if any(isinstance(part, (ast.Call, ast.Set)) for part in ast.walk(node.value)):
+                yield f"L3: line {node.lineno} is no plain value"
+        elif isinstance(node, ast.ImportFrom):
+            bound.extend(name.name for name in node.names)
+        elif not (node is tree.body[0] and isinstance(node, ast.Expr)):
+            yield f"L3: line {node.lineno} at the top"
+    if len(bound) != len(set(bound)):
+        yield "L15: a name bound twice at the top"
+
+
+def import_faults(node):
+    if isinstance(node, ast.Import):
+        yield "L16: import without from"
+    if isinstance(node, ast.ImportFrom):
+        own = node.module is not None and node.module.startswith("sidelink.") and node.level == 0
+        if not (own or node.module == "__future__") or any(name.name == "*" for name in node.names):
+            yield "L2: import"
+
+
+def def_faults(node):
+    if isinstance(node, (ast.FunctionDef, ast.ClassDef)) and node.decorator_list:
+        yield "L4: decorator"
+    if isinstance(node, ast.FunctionDef):
+        given = node.args
+        if given.vararg or given.kwarg or given.kwonlyargs or given.posonlyargs:
+            yield "L4: parameters"
+        if node.end_lineno - node.lineno >= 40:
+            yield "L10: function too long"
+    if isinstance(node, ast.ClassDef):
+        if len(node.bases) > 1 or node.keywords:
+            yield "L5: bases"
+        if any(not isinstance(part, (ast.FunctionDef, ast.Pass)) for part in node.body):
+            yield "L5: class body"
+
+
+def statement_faults(node):
+    if isinstance(node, ast.stmt) and not isinstance(node, STATEMENTS + (ast.Import,)):
+        yield "L6: statement"
+    if isinstance(node, ast.Assign) and (len(node.targets) > 1 or isinstance(node.targets[0], (ast.Tuple, ast.List))):
+        yield "L6: more than one target"
+    if isinstance(node, (ast.For, ast.While)) and node.orelse:
+        yield "L6: else behind a loop"
+    if isinstance(node, ast.Try) and node.finalbody:
+        yield "L6: finally"
+    if isinstance(node, ast.ExceptHandler):
+        named = ast.unparse(node.type) if node.type else ""
+        if named in ("", "Exception", "TypeError", "BaseException"):
+            yield "L19: handler"
+
+
+def value_faults(node):
+    if isinstance(node, BARRED):
+        yield "L7: expression"
+    if isinstance(node, ast.ListComp) and (len(node.generators) > 1 or len(node.generators[0].ifs) > 1):
+        yield "L7: comprehension"
+    if isinstance(node, ast.Constant) and not isinstance(node.value, (int, str, type(None))):
+        yield "L7: value"
+    if isinstance(node, ast.Compare):
+        for operator, side in zip(node.ops, node.comparators):
+            if isinstance(operator, (ast.Is, ast.IsNot)):
+                if not (isinstance(side, ast.Constant) and side.value in (None, True, False)):
+                    yield "L20: is"
+
+
+def name_faults(node):
+    names = []
+    if isinstance(node, ast.Name):
+        names = [node.id]
+        if isinstance(node.ctx, ast.Load) and hasattr(builtins, node.id) and node.id not in BUILTINS:
+            yield f"L8: {node.id}"
+        if isinstance(node.ctx, ast.Store) and hasattr(builtins, node.id):
+            yield f"L15: {node.id} is Python's own"
+    elif isinstance(node, ast.arg):
+        names = [node.arg]
+        if hasattr(builtins, node.arg):
+            yield f"L15: {node.arg} is Python's own"
+    elif isinstance(node, ast.Attribute):
+        names = [node.attr]
+    elif isinstance(node, (ast.FunctionDef, ast.ClassDef)):
+        names = [node.name]
+    for name in names:
+        if name in UNUSED:
+            yield f"L17: name {name}"
+        if name.startswith("_") and name not in METHODS:
+            yield f"L12: name {name}"
+
+
+def faults_of(text):
+    tree = ast.parse(text)
+    told = list(text_faults(text)) + list(top_faults(tree))
+    for node in ast.walk(tree):
+        for look in (import_faults, def_faults, statement_faults, value_faults, name_faults):
+            told.extend(f"{fault}, line {getattr(node, 'lineno', 0)}" for fault in look(node))
+    return told
+
+
+class Form(unittest.TestCase):
+    def test_only_plain_files_lie_in_the_package(self):
+        for path in PACKAGE.iterdir():
+            if path.name != "__pycache__":
+                self.assertTrue(path.is_file(), path)
+                self.assertRegex(path.name, r"\A(__init__|__main__|[a-z][a-z0-9_]*)\.py\Z")
+        self.assertTrue((PACKAGE / "__init__.py").is_file())
+
+    def test_the_package_keeps_to_the_rules(self):
+        for path in sorted(PACKAGE.glob("*.py")):
+            with self.subTest(path=path.name):
+                self.assertEqual(faults_of(path.read_text(encoding="utf-8")), [])
+
+    def test_the_look_finds_what_breaks_a_rule(self):
+        breaches = {
+            "L2": "from math import sqrt\n",
+            "L16": "import math\n",
+            "L3": "xs = list(())\n",
+            "L4": "def f(*xs):\n    return xs\n",
+            "L5": "class C:\n    x = 1\n",
+            "L6": "def f():\n    del x\n",
+            "L7": "def f():\n    return 1.5\n",
+            "L8": "def f(x):\n    return hash(x)\n",
+            "L10": "def f():\n" + "    x = 1\n" * 40,
+            "L12": "def _f():\n    return 1\n",
+            "L14": "x = '\t'\n",
+            "L15": "x = 1\nx = 2\n",
+            "L17": "# a type of page\n",
+            "L19": "def f():\n    try:\n        f()\n    except Exception:\n        pass\n",
+            "L20": "def f(x, y):\n    return x is y\n",
+        }
+        for rule, text in breaches.items():
+            with self.subTest(rule=rule):
+                self.assertTrue([fault for fault in faults_of(text) if fault.startswith(rule + ":")])
+
+
+if __name__ == "__main__":
+    unittest.main()
