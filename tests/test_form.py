@@ -24,6 +24,17 @@ STATEMENTS = (ast.Assign, ast.AugAssign, ast.If, ast.While, ast.For, ast.Return,
 BARRED = (ast.DictComp, ast.SetComp, ast.GeneratorExp, ast.NamedExpr, ast.Starred, ast.Await, ast.Yield,
           ast.YieldFrom, ast.Div, ast.MatMult)
 
+# The methods of Python's own values that may be called.
+CALLED = """append clear copy count endswith extend find get index insert isalnum isalpha isdigit islower isspace
+isupper items join keys ljust lower lstrip partition pop remove replace reverse rfind rjust rpartition rsplit rstrip
+setdefault split splitlines startswith strip update upper values zfill bit_length""".split()
+OWN_VALUES = "count index title find get join lower upper split strip copy add".split()
+OF_PYTHONS_VALUES = {name for kind in (str, int, list, tuple, dict, set, frozenset, bytes, bool) for name in dir(kind)}
+WALKED = "zip enumerate reversed range items keys values".split()
+WALKERS = "list tuple dict sorted sum any all enumerate zip min max join".split()
+KEYWORDS = {"sorted": ("key", "reverse"), "min": ("key", "default"), "max": ("key", "default"), "sum": ("start",),
+            "enumerate": ("start",), "zip": ("strict",)}
+
 
 def text_faults(text):
     lines = text.split("\n")
@@ -133,11 +144,116 @@ def name_faults(node):
             yield f"L12: name {name}"
 
 
+def called_name(node):
+    if not isinstance(node, ast.Call):
+        return None
+    return node.func.id if isinstance(node.func, ast.Name) else getattr(node.func, "attr", None)
+
+
+def call_faults(node):
+    if isinstance(node, ast.Call) and isinstance(node.func, ast.Name) and node.func.id in BUILTINS:
+        if any(keyword.arg not in KEYWORDS.get(node.func.id, ()) for keyword in node.keywords):
+            yield "L22: keyword"
+    if isinstance(node, ast.Constant) and isinstance(node.value, str) and "%" in node.value:
+        yield "L27: a text with the sign for parts of a hundred"
+    if isinstance(node, ast.FunctionDef) and node.name == "__init__":
+        if any(isinstance(part, ast.Return) and part.value is not None for part in ast.walk(node)):
+            yield "L28: __init__ gives something back"
+
+
+def walked_faults(tree):
+    """What is walked at once must stand where something walks it."""
+    walked = []
+    for node in ast.walk(tree):
+        if isinstance(node, (ast.For, ast.comprehension)):
+            walked.append(node.iter)
+        if called_name(node) in WALKERS:
+            walked.extend(node.args)
+    for node in ast.walk(tree):
+        if called_name(node) in WALKED and node not in walked:
+            yield f"L23: {called_name(node)} is kept, line {node.lineno}"
+
+
+def local_faults(tree):
+    """No parameter and no local is called like a class or an import of its file."""
+    taken = [node.name for node in tree.body if isinstance(node, ast.ClassDef)]
+    for node in tree.body:
+        if isinstance(node, ast.ImportFrom):
+            taken.extend(name.asname or name.name for name in node.names)
+    for node in ast.walk(tree):
+        name = node.arg if isinstance(node, ast.arg) else None
+        if isinstance(node, ast.Name) and isinstance(node.ctx, ast.Store):
+            name = node.id
+        if name in taken:
+            yield f"L15: {name} is a class or an import, line {node.lineno}"
+
+
+def top_names(tree):
+    names = [node.name for node in tree.body if isinstance(node, (ast.FunctionDef, ast.ClassDef))]
+    for node in tree.body:
+        if isinstance(node, ast.Assign):
+            names.extend(target.id for target in node.targets)
+    return names
+
+
+def drawn_from(tree):
+    return {node.module: [name.name for name in node.names] for node in tree.body if isinstance(node, ast.ImportFrom)}
+
+
+def import_graph_faults(trees):
+    files = {f"sidelink.{name}": tree for name, tree in trees.items()}
+    for name, tree in files.items():
+        for module, names in drawn_from(tree).items():
+            for wanted in names:
+                if module not in files or wanted not in top_names(files[module]):
+                    yield f"L16: {name} draws {wanted} from {module}, which does not define it"
+        reached = []
+        waiting = list(drawn_from(tree))
+        while waiting:
+            module = waiting.pop()
+            if module in files and module not in reached:
+                reached.append(module)
+                waiting.extend(drawn_from(files[module]))
+        if name in reached:
+            yield f"L16: {name} draws from itself in some steps"
+
+
+def member_faults(trees):
+    """Names of methods and values, over all files together."""
+    methods = []
+    values = []
+    called = []
+    for tree in trees.values():
+        for node in ast.walk(tree):
+            if isinstance(node, ast.ClassDef):
+                own = [part.name for part in node.body if isinstance(part, ast.FunctionDef)]
+                methods.extend(own)
+                if len(own) != len(set(own)):
+                    yield f"L18: a method twice in {node.name}"
+            if isinstance(node, ast.Attribute) and isinstance(node.ctx, ast.Store):
+                values.append(node.attr)
+            if isinstance(node, ast.Call) and isinstance(node.func, ast.Attribute):
+                called.append(node.func.attr)
+    for name in sorted(set(methods) & set(values)):
+        yield f"L18: {name} is a method and a value"
+    for name in sorted(set(methods) & OF_PYTHONS_VALUES - set(CALLED) - set(METHODS) - {"add", "discard"}):
+        yield f"L26: method {name}"
+    for name in sorted(set(values) & OF_PYTHONS_VALUES - set(OWN_VALUES)):
+        yield f"L26: value {name}"
+    for name in sorted(set(called) - set(methods) - set(CALLED) - set(METHODS)):
+        yield f"L25: {name} is called"
+
+
+def package_faults(texts):
+    trees = {name: ast.parse(text) for name, text in texts.items()}
+    return list(import_graph_faults(trees)) + list(member_faults(trees))
+
+
 def faults_of(text):
     tree = ast.parse(text)
-    told = list(text_faults(text)) + list(top_faults(tree))
+    told = list(text_faults(text)) + list(top_faults(tree)) + list(local_faults(tree)) + list(walked_faults(tree))
     for node in ast.walk(tree):
-        for look in (import_faults, def_faults, statement_faults, value_faults, name_faults):
+        for look in (import_faults, def_faults, statement_faults, value_faults, name_faults, call_faults):
             told.extend(f"{fault}, line {getattr(node, 'lineno', 0)}" for fault in look(node))
     return told
 
@@ -154,6 +270,26 @@ class Form(unittest.TestCase):
         for path in sorted(PACKAGE.glob("*.py")):
             with self.subTest(path=path.name):
                 self.assertEqual(faults_of(path.read_text(encoding="utf-8")), [])
+
+    def test_the_files_together_keep_to_the_rules(self):
+        texts = {path.stem: path.read_text(encoding="utf-8") for path in PACKAGE.glob("*.py")}
+        self.assertEqual(package_faults(texts), [])
+
+    def test_the_look_finds_what_breaks_a_rule_between_files(self):
+        two = "class {}:\n    def __init__(self):\n        self.{} = 1\n\n    def {}(self):\n        return self\n"
+        breaches = {
+            "L16: sidelink.a draws x": {"a": "from sidelink.b import x\n", "b": "y = 1\n"},
+            "L16: sidelink.a draws from": {"a": "from sidelink.b import y\nx = 1\n",
+                                           "b": "from sidelink.a import x\ny = 1\n"},
+            "L18: one is": {"a": two.format("A", "one", "two"), "b": two.format("B", "three", "one")},
+            "L18: a method twice": {"a": two.format("A", "one", "two") + "\n    def two(self):\n        return 1\n"},
+            "L25": {"a": "def f(xs):\n    xs.sort()\n"},
+            "L26: method": {"a": two.format("A", "one", "encode")},
+            "L26: value": {"a": two.format("A", "items", "two")},
+        }
+        for rule, texts in breaches.items():
+            with self.subTest(rule=rule):
+                self.assertTrue([fault for fault in package_faults(texts) if fault.startswith(rule)])
 
     def test_the_look_finds_what_breaks_a_rule(self):
         breaches = {
@@ -172,10 +308,19 @@ class Form(unittest.TestCase):
             "L17": "# a type of page\n",
             "L19": "def f():\n    try:\n        f()\n    except Exception:\n        pass\n",
             "L20": "def f(x, y):\n    return x is y\n",
+            "L22": "def f(x):\n    return int(x, base=2)\n",
+            "L23": "def f(x):\n    pairs = zip(x, x)\n    return list(pairs)\n",
+            "L27": "def f():\n    return 'a % b'\n",
+            "L28": "class C:\n    def __init__(self):\n        return None\n",
         }
         for rule, text in breaches.items():
             with self.subTest(rule=rule):
                 self.assertTrue([fault for fault in faults_of(text) if fault.startswith(rule + ":")])
+
+    def test_the_look_finds_locals_that_are_called_like_imports_and_classes(self):
+        for text in ("from sidelink.a import x\n\n\ndef f(x):\n    return x\n",
+                     "class C:\n    pass\n\n\ndef f():\n    C = 1\n    return C\n"):
+            self.assertTrue([fault for fault in faults_of(text) if fault.startswith("L15:")])
 
 
 if __name__ == "__main__":
