@@ -55,6 +55,10 @@ class Shelf:
     def writings(self):
         return self.write_count
 
+    def picture(self):
+        # For those who only look: a list of their own, and no reading is counted.
+        return list(self.kept)
+
     def check_number(self, number):
         # A list would take numbers below 0 as counted from its end.
         if not 0 <= number < len(self.kept):

@@ -55,5 +55,9 @@ class Weaver:
         # Asked of the walks anew each time, so that each list told is the asker's own.
         return [(holding[0], holding[1].answer()) for holding in self.done]
 
+    def change_shelf(self, shelf):
+        # Only for a weaver that is idle: a walk stays on the shelf on which it was begun.
+        self.shelf = shelf
+
     def idle(self):
         return self.taken == len(self.deeds) and all([holding is None for holding in self.held])

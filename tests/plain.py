@@ -1,4 +1,4 @@
-"""What the tests hold the program against: walks told a second time over plain lists, and a look at whole shelves."""
+"""What the tests hold the program against: walks and looks told a second time over plain lists."""
 
 import bisect
 
@@ -15,6 +15,21 @@ def picker(seed):
         return (state[0] >> 33) % n
 
     return pick
+
+
+def deeds_of(pick, count, keys):
+    """Deeds of all words by chance, more puts than others."""
+    deeds = []
+    for turn in range(count):
+        word = ("put", "put", "put", "put", "find", "cut", "stretch")[pick(7)]
+        key = pick(keys) - keys // 2
+        if word == "put":
+            deeds.append((word, key, pick(1000) - 500))
+        elif word == "stretch":
+            deeds.append((word, key, key + 1 + pick(keys)))
+        else:
+            deeds.append((word, key))
+    return deeds
 
 
 def run_walk(walk):
@@ -38,6 +53,15 @@ def counts_of(shelf):
 def shelf_state(shelf):
     """Counts are asked first, for looking at the pages counts as reading."""
     return counts_of(shelf) + (shelf.root(), shelf.room(), shelf.pages(), pages_of(shelf))
+
+
+def shelve(shelf, pages, root):
+    """Fills a new shelf with pages made by hand."""
+    shelf.write(0, pages[0])
+    for page in pages[1:]:
+        shelf.lay(page)
+    shelf.make_root(root)
+    return shelf
 
 
 def leaf_table(pages):
@@ -103,6 +127,94 @@ def kid_counts(pages):
         for kid in parts if level else ():
             counts[kid] += 1
     return counts
+
+
+def plain_levels(pages, root):
+    lists = []
+    used = set()
+    number = root
+    for level in range(pages[root][0] + 1):
+        row = []
+        while number in range(len(pages)) and number not in used:
+            used.add(number)
+            row.append(number)
+            number = pages[number][4]
+        lists.append(row)
+        number = next(iter(pages[row[0]][2]), None) if row else None
+    return lists
+
+
+def plain_faults(pages, root):
+    """The faults of a shelf's pages, told a second time."""
+    told = []
+    lists = plain_levels(pages, root)
+    for depth, row in enumerate(lists):
+        level = pages[root][0] - depth
+        for place, number in enumerate(row):
+            own, keys, parts, high, side = pages[number]
+            begin = pages[row[place - 1]][3] if place else None
+            chain = [bound for bound in (begin, high) if bound is not None]
+            held = {
+                "level": own == level,
+                "order": list(keys) == sorted(set(keys)) and chain == sorted(set(chain))
+                and (begin is None or min(keys, default=begin) >= begin)
+                and (high is None or max(keys, default=high - 1) < high),
+                "parts": len(parts) - len(keys) == (0 if own == 0 else 1),
+                "links": [high, side].count(None) != 1 and [side] == (row + [None])[place + 1:place + 2],
+            }
+            told += [(word, number) for word in held if not held[word]]
+            if level:
+                told += [("kid", number, at) for at in range(len(parts))
+                         if not plain_kid_fits(pages, lists[depth + 1], begin, pages[number], at)]
+    return told
+
+
+def plain_kid_fits(pages, beneath, begin, page, at):
+    if page[2][at] not in beneath or at > len(page[1]):
+        return False
+    place = beneath.index(page[2][at])
+    ahead = pages[beneath[place - 1]][3] if place else None
+    return ahead == (page[1][at - 1] if at else begin)
+
+
+def plain_untold(pages, root):
+    lists = plain_levels(pages, root)
+    return [number for above, row in zip(lists, lists[1:]) for number in row
+            if not any(number in pages[other][2] for other in above)]
+
+
+def plain_table(pages, root):
+    return [pair for number in plain_levels(pages, root)[-1] for pair in zip(*pages[number][1:3])]
+
+
+def plain_packed(table, room):
+    """The pages of a packed table, told a second time: (begin, kids or pairs) level by level, then numbered."""
+    leaves = [table[at:at + room] for at in range(0, len(table), room)] or [[]]
+    rows = [[(pairs[0][0] if pairs else None, pairs) for pairs in leaves]]
+    while len(rows[-1]) > 1:
+        beneath = rows[-1]
+        places = list(range(len(beneath)))
+        groups = []
+        while places:
+            groups.append([places.pop(0) for turn in range(min(room + 1, len(places)))])
+        if len(groups[-1]) == 1:
+            groups[-1].insert(0, groups[-2].pop())
+        rows.append([(beneath[group[0]][0], group) for group in groups])
+    pages = []
+    first = 0
+    for level, row in enumerate(rows):
+        behind = row[1:] + [None]
+        below = first
+        first = len(pages)
+        for number, ((begin, held), after) in enumerate(zip(row, behind), start=first):
+            high, side = (None, None) if after is None else (after[0], number + 1)
+            if level == 0:
+                keys, parts = tuple(key for key, worth in held), tuple(worth for key, worth in held)
+            else:
+                keys = tuple(rows[level - 1][place][0] for place in held[1:])
+                parts = tuple(below + place for place in held)
+            pages.append((level, keys, parts, high, side))
+    return pages
 
 
 class PlainTree:

@@ -45,6 +45,9 @@ def text_faults(text):
             yield f"L10: line {row} too long"
         if any(not " " <= sign <= "~" for sign in line):
             yield f"L14: sign in line {row}"
+    for escape in re.findall(r"\\(.)", text):
+        if escape not in "nt\\'\"":
+            yield f"L27: escape {escape}"
     for word in re.findall(r"\w+", text):
         if word in NOWHERE or any(part in word for part in WITHIN):
             yield f"L17: word {word}"
@@ -57,7 +60,7 @@ def top_faults(tree):
             bound.append(node.name)
         elif isinstance(node, ast.Assign):
             bound.extend(target.id for target in node.targets if isinstance(target, ast.Name))
-            if any(isinstance(part, (ast.Call, ast.Set)) for part in ast.walk(node.value)):
+            if any(isinstance(part, (ast.Call, ast.Set, ast.BinOp, ast.IfExp)) for part in ast.walk(node.value)):
                 yield f"L3: line {node.lineno} is no plain value"
         elif isinstance(node, ast.ImportFrom):
             bound.extend(name.name for name in node.names)
@@ -65,6 +68,53 @@ def top_faults(tree):
             yield f"L3: line {node.lineno} at the top"
     if len(bound) != len(set(bound)):
         yield "L15: a name bound twice at the top"
+
+
+def kept_faults(tree):
+    """A list or dict of a file's top holds none itself and is only read."""
+    kept = {}
+    for node in tree.body:
+        if isinstance(node, ast.Assign) and isinstance(node.value, (ast.List, ast.Dict)):
+            kept[node.targets[0].id] = node.value
+            if any(isinstance(part, (ast.List, ast.Dict)) for part in list(ast.walk(node.value))[1:]):
+                yield f"L15: a list or dict within one, line {node.lineno}"
+    read = set()
+    for node in ast.walk(tree):
+        if isinstance(node, ast.Subscript) and isinstance(node.ctx, ast.Load):
+            read.add(node.value)
+        if isinstance(node, ast.Attribute) and node.attr == "get":
+            read.add(node.value)
+        if isinstance(node, ast.Compare):
+            read.update([node.left] + node.comparators)
+        if isinstance(node, (ast.For, ast.comprehension)):
+            read.add(node.iter)
+        if called_name(node) in ("len", "list", "dict", "sorted"):
+            read.update(node.args)
+    for node in ast.walk(tree):
+        if isinstance(node, ast.Name) and isinstance(node.ctx, ast.Load) and node.id in kept and node not in read:
+            yield f"L15: {node.id} is not only read, line {node.lineno}"
+
+
+def class_faults(tree):
+    """A class is called, is a base, or stands by isinstance, except or raise."""
+    used = set()
+    for node in ast.walk(tree):
+        if isinstance(node, ast.Call):
+            used.add(node.func)
+        if called_name(node) == "isinstance":
+            used.update(ast.walk(node.args[1]))
+        if isinstance(node, ast.ClassDef):
+            used.update(node.bases)
+        if isinstance(node, ast.ExceptHandler) and node.type:
+            used.update(ast.walk(node.type))
+    for node in ast.walk(tree):
+        if isinstance(node, ast.Name) and isinstance(node.ctx, ast.Load) and node not in used:
+            if re.fullmatch(r"[A-Z]\w*[a-z]\w*", node.id):
+                yield f"L18: {node.id} is handed on, line {node.lineno}"
+        if isinstance(node, ast.Attribute) and isinstance(node.ctx, ast.Store) and not isinstance(node.value, ast.Name):
+            yield f"L18: {node.attr} is given through no local name, line {node.lineno}"
+        if isinstance(node, ast.Raise) and not isinstance(node.exc, ast.Call):
+            yield f"L19: raise makes no error, line {node.lineno}"
 
 
 def import_faults(node):
@@ -81,6 +131,8 @@ def def_faults(node):
         yield "L4: decorator"
     if isinstance(node, ast.FunctionDef):
         given = node.args
+        if node.returns or any(one.annotation for one in given.args):
+            yield "L21: annotation"
         if given.vararg or given.kwarg or given.kwonlyargs or given.posonlyargs:
             yield "L4: parameters"
         if node.end_lineno - node.lineno >= 40:
@@ -114,6 +166,12 @@ def value_faults(node):
         yield "L7: comprehension"
     if isinstance(node, ast.Constant) and not isinstance(node.value, (int, str, type(None))):
         yield "L7: value"
+    # Sets have narrow places of their own; the package does without them.
+    if isinstance(node, ast.Set) or called_name(node) in ("set", "frozenset"):
+        yield "L24: a set"
+    if isinstance(node, ast.BinOp) and isinstance(node.op, ast.Pow):
+        if not (isinstance(node.right, ast.Constant) and node.right.value in range(65)):
+            yield "L27: exponent"
     if isinstance(node, ast.Compare):
         for operator, side in zip(node.ops, node.comparators):
             if isinstance(operator, (ast.Is, ast.IsNot)):
@@ -251,7 +309,9 @@ def package_faults(texts):
 
 def faults_of(text):
     tree = ast.parse(text)
-    told = list(text_faults(text)) + list(top_faults(tree)) + list(local_faults(tree)) + list(walked_faults(tree))
+    told = list(text_faults(text))
+    for look in (top_faults, local_faults, walked_faults, kept_faults, class_faults):
+        told.extend(look(tree))
     for node in ast.walk(tree):
         for look in (import_faults, def_faults, statement_faults, value_faults, name_faults, call_faults):
             told.extend(f"{fault}, line {getattr(node, 'lineno', 0)}" for fault in look(node))
@@ -316,6 +376,31 @@ class Form(unittest.TestCase):
         for rule, text in breaches.items():
             with self.subTest(rule=rule):
                 self.assertTrue([fault for fault in faults_of(text) if fault.startswith(rule + ":")])
+
+    def test_the_look_finds_more_that_breaks_a_rule(self):
+        top = "xs = [1]\nd = {'a': 1}\n\n\n"
+        breaches = (
+            ("L3", "x = 10 ** 30\n"),
+            ("L15", "xs = [[1]]\n"),
+            ("L15", "xs = {'a': {'b': 1}}\n"),
+            ("L15", top + "def f():\n    return xs\n"),
+            ("L15", top + "def f():\n    xs.append(1)\n"),
+            ("L15", top + "def f():\n    d['b'] = 2\n"),
+            ("L18", "class C:\n    pass\n\n\ndef f():\n    return [Card]\n"),
+            ("L18", "def f(x):\n    x.y.z = 1\n"),
+            ("L19", "def f():\n    raise Busy\n"),
+            ("L21", "def f(x: int):\n    return x\n"),
+            ("L21", "def f(x) -> int:\n    return x\n"),
+            ("L24", "def f(x):\n    return set(x)\n"),
+            ("L27", "def f(n):\n    return 2 ** n\n"),
+            ("L27", "def f():\n    return 10 ** 65\n"),
+            ("L27", "def f():\n    return '\\x41'\n"),
+        )
+        for rule, text in breaches:
+            with self.subTest(text=text):
+                self.assertTrue([fault for fault in faults_of(text) if fault.startswith(rule + ":")])
+        fine = top + "def f(x):\n    return d.get(x) in xs and xs[0] < len(d) and dict(d)\n"
+        self.assertEqual(faults_of(fine), [])
 
     def test_the_look_finds_locals_that_are_called_like_imports_and_classes(self):
         for text in ("from sidelink.a import x\n\n\ndef f(x):\n    return x\n",

@@ -218,5 +218,22 @@ class RaiseRoot(unittest.TestCase):
             self.assert_raised(shelf, key, 1, (2, (key,), (2, 1), None, None))
 
 
+class Picture(unittest.TestCase):
+    def test_all_pages_by_their_numbers_and_nothing_counted(self):
+        shelf = grown()
+        self.assertEqual(shelf.picture(), [LEAF, LAST_LEAF, FORK])
+        self.assertEqual(counts_of(shelf), (0, 3))
+        self.assertEqual(Shelf(2).picture(), [EMPTY])
+
+    def test_the_list_told_is_the_askers_own(self):
+        shelf = grown()
+        told = shelf.picture()
+        told.clear()
+        self.assertEqual((shelf.pages(), pages_of(shelf)), (3, [LEAF, LAST_LEAF, FORK]))
+        told = shelf.picture()
+        shelf.write(0, WIDE)
+        self.assertEqual(told, [LEAF, LAST_LEAF, FORK])
+
+
 if __name__ == "__main__":
     unittest.main()

@@ -354,6 +354,22 @@ class Idle(unittest.TestCase):
         self.assertIs(weaver.idle(), False)
 
 
+class ChangeShelf(unittest.TestCase):
+    def test_deeds_go_on_on_the_other_shelf(self):
+        shelf, weaver = filled(2)
+        weaver.hand_in(("find", 10))
+        weaver.finish()
+        other, unused = filled(2, keys=(10, 20, 30))
+        weaver.change_shelf(other)
+        ahead = shelf_state(shelf)
+        self.assertEqual(weaver.hand_in(("cut", 10)), 1)
+        self.assertEqual([weaver.move(0) for turn in range(3)],
+                         [("take", 0, 1), ("down", 0, 1, 2, 0), ("cut", 0, 1, 0, 100)])
+        self.assertEqual(weaver.answers(), [(0, 100), (1, 100)])
+        self.assertEqual(shelf_state(shelf)[2:], ahead[2:])
+        self.assertEqual(leaf_table(pages_of(other)), {20: 200, 30: 300})
+
+
 class PlainWeaver:
     """The weaver told a second time over plain walks."""
 

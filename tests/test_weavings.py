@@ -2,25 +2,11 @@
 
 import unittest
 
-from plain import BIG, PlainTree, PlainWalk, counts_of, kid_counts, leaf_table, pages_of, picker, unsound
+from plain import BIG, PlainTree, PlainWalk, counts_of, deeds_of, kid_counts, leaf_table, pages_of, picker, unsound
 from sidelink.shelves import Shelf
 from sidelink.walks import Walk
 
 MOMENTS = {"find": "found", "put": "put", "cut": "cut", "stretch": "read"}
-
-
-def deeds_of(pick, count, keys):
-    deeds = []
-    for turn in range(count):
-        word = ("put", "put", "put", "put", "find", "cut", "stretch")[pick(7)]
-        key = pick(keys) - keys // 2
-        if word == "put":
-            deeds.append((word, key, pick(1000) - 500))
-        elif word == "stretch":
-            deeds.append((word, key, key + 1 + pick(keys)))
-        else:
-            deeds.append((word, key))
-    return deeds
 
 
 class Weaving:
